@@ -1,0 +1,1 @@
+"""The tests of variantnest: python3 -m unittest, at the top of the repository."""
