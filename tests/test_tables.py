@@ -192,7 +192,7 @@ class MakeTable(unittest.TestCase):
         self.assertEqual(refused(self, BadEntry, make_table, [SET, deep(900, list)]), {"index": 1})
 
     def test_no_sequence_of_entries(self):
-        for value in (None, 0, True, "set"):
+        for value in (None, 0, True, "set", ""):
             self.assertEqual(refused(self, BadEntry, make_table, value), {"index": 0})
 
     def test_a_key_twice(self):
