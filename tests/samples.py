@@ -1,8 +1,13 @@
 """Objects that several tests pass, and plain definitions to test against."""
 
+import functools
+import itertools
 import random
 import re
 
+from variantnest.errors import BadEntry, TwoEntries
+
+EMPTY = ((), ())
 EIGHT = ("a", "b", "c", "d", "e", "f", "g", "h")
 NINE = (*EIGHT, "i")
 HUGE = 10 ** 30 - 1
@@ -167,3 +172,143 @@ def spoiled(rng, value):
 
 def seeded(number):
     return random.Random(number)
+
+
+def paths_of(tree, path=()):
+    """The props of each node of a tree, a dict for each path."""
+    rows = {path: dict(tree[0])}
+    for name, child in tree[1]:
+        rows.update(paths_of(child, (*path, name)))
+    return rows
+
+
+def tree_of(rows, path=()):
+    """The tree with such nodes."""
+    names = sorted(below[-1] for below in rows if below and below[:-1] == path)
+    children = tuple((name, tree_of(rows, (*path, name))) for name in names)
+    return (tuple(sorted(rows[path].items())), children)
+
+
+def kept(table, tree):
+    """The nodes of a tree that no hide entry concerns, path by path."""
+    hidden = [entry[1] for entry in table if entry[0] == "hide"]
+    found = paths_of(tree)
+    return {path: found[path] for path in found if not any(path[:len(some)] == some for some in hidden)}
+
+
+def applied(table, tree):
+    """What [13] says, path by path."""
+    rows = kept(table, tree)
+    shown = {path: dict(rows[path]) for path in rows}
+    for word, path, *rest in table:
+        if word == "set" and path in rows:
+            shown[path][rest[0]] = rest[1]
+        elif word == "drop" and path in rows:
+            shown[path].pop(rest[0], None)
+        elif word == "put" and path[:-1] in rows and path not in rows:
+            inner = paths_of(rest[0])
+            shown.update({path + below: inner[below] for below in inner})
+    return tree_of(shown)
+
+
+def without(table, entry):
+    return tuple(other for other in table if other != entry)
+
+
+def tables_of(entries, most):
+    """All tables of a few of these entries."""
+    for many in range(most + 1):
+        for some in itertools.combinations(sorted(entries, key=key_of), many):
+            if is_table(some):
+                yield some
+
+
+@functools.lru_cache(maxsize=None)
+def trees_of(many, names, props):
+    """All trees of so many nodes with these ids, each node with one of some props."""
+    return tuple((own, rows) for own in props for rows in rows_of(many - 1, names, names, props))
+
+
+@functools.lru_cache(maxsize=None)
+def rows_of(many, names, inner, props):
+    """All children of so many nodes together, with these ids; further down inner are the ids."""
+    if not names:
+        return () if many else ((),)
+    found = list(rows_of(many, names[1:], inner, props))
+    for part in range(1, many + 1):
+        rest = rows_of(many - part, names[1:], inner, props)
+        for tree, rows in itertools.product(trees_of(part, inner, props), rest):
+            found.append(((names[0], tree), *rows))
+    return tuple(found)
+
+
+def trees_up_to(most, names, props):
+    """All trees of at most so many nodes, the smaller ones first."""
+    return [tree for many in range(1, most + 1) for tree in trees_of(many, names, props)]
+
+
+def table_fault(value):
+    """The error that any object raises in the place of a table, with its fields, or None."""
+    value = tuples(value)
+    if not isinstance(value, tuple):
+        return BadEntry, {"index": 0}
+    for index, entry in enumerate(value):
+        if not is_entry(entry):
+            return BadEntry, {"index": index}
+    keys = [key_of(entry) for entry in value]
+    for index, key in enumerate(keys):
+        if key in keys[:index]:
+            return TwoEntries, {"key": key}
+    return None
+
+
+def near_path(rng):
+    """A path among few, so that entries meet."""
+    return tuple(rng.choice(("a", "b", "ab")) for _ in range(rng.choice((0, 1, 1, 2, 2, 3))))
+
+
+def near_tree(rng, levels=3):
+    names = rng.sample(("a", "b", "ab"), rng.randint(0, 2)) if levels else ()
+    props = {name: rng.choice((1, 2, "x", ("link", ()))) for name in rng.sample(("x", "y"), rng.randint(0, 2))}
+    return (tuple(sorted(props.items())), tuple((name, near_tree(rng, levels - 1)) for name in sorted(names)))
+
+
+def near_entry(rng):
+    path = near_path(rng)
+    below = path or ("a",)
+    return rng.choice((
+        ("drop", path, rng.choice("xy")), ("set", path, rng.choice("xy"), rng.choice((1, 2, "x", ("link", ())))),
+        ("hide", below), ("put", below, near_tree(rng, 1)),
+    ))
+
+
+def near_table(rng, most=8):
+    """A table of entries that meet one another and the nodes of near_tree."""
+    entries = [near_entry(rng) for _ in range(rng.randint(0, most))]
+    rows = {key_of(entry): entry for entry in entries}
+    return tuple(rows[key] for key in sorted(rows))
+
+
+def full_tree(many):
+    """A tree of so many nodes, up to 7 levels below the root, each with two props."""
+    rows = {(): {"x": 0, "y": 0}}
+    for path in itertools.chain.from_iterable(itertools.product("abc", repeat=long) for long in range(1, 9)):
+        if len(rows) == many:
+            break
+        rows[path] = {"x": len(rows), "y": ("link", path)}
+    return tree_of(rows)
+
+
+def full_table(rng, tree, many):
+    """A table of so many entries for the nodes of a tree."""
+    paths = sorted(paths_of(tree))
+    rows = {}
+    while len(rows) < many:
+        path = rng.choice(paths)
+        below = (*path[:7], rng.choice("abcd"))
+        entry = rng.choice((
+            ("set", path, rng.choice("xyz"), 7), ("drop", path, rng.choice("xyz")), ("put", below, EMPTY),
+            ("hide", below) if len(below) > 3 else ("set", path, "x", 8),
+        ))
+        rows[key_of(entry)] = entry
+    return tuple(rows[key] for key in sorted(rows))

@@ -4,16 +4,20 @@ import copy
 import inspect
 import unittest
 
-from tests.samples import EIGHT, HUGE, chain, lists
-from variantnest import tables, trees, values
+from tests.samples import EIGHT, EMPTY, HUGE, chain, lists
+from variantnest import applying, between, composing, normal, tables, trees, values
 
-EMPTY = ((), ())
 TREE = (
     (("rank", 1), ("to", ("link", ("gone",)))),
     (("a", ((("rank", 7),), ())), ("b", ((), (("c", EMPTY),)))),
 )
 TABLE = (("hide", ("b",)), ("set", ("a",), "x", 1), ("put", ("a",), TREE))
 KEY = ("prop", ("a",), "x")
+SET, DROP, HIDE, PUT = ("set", (), "x", 2), ("drop", (), "rank"), ("hide", ("b",)), ("put", ("d",), EMPTY)
+MADE = (
+    (("to", ("link", ("gone",))), ("x", 2)),
+    (("a", ((("rank", 7),), ())), ("d", EMPTY)),
+)
 
 # Each function of the interface: its module, its parameters, what is passed, the result.
 CALLS = (
@@ -34,6 +38,21 @@ CALLS = (
     (tables.entry_with, ("table", "key"), (TABLE, KEY), TABLE[1]),
     (tables.with_entry, ("table", "entry"), (TABLE[:2], TABLE[2]), TABLE),
     (tables.without_entry, ("table", "key"), (TABLE, KEY), (TABLE[0], TABLE[2])),
+    (applying.applied, ("table", "tree"), ((SET, HIDE, PUT, DROP), TREE), MADE),
+    (
+        applying.entry_words, ("table", "tree"), ((PUT, SET, TABLE[2], ("set", (), "rank", 1)), TREE),
+        [(("set", (), "rank", 1), "same"), (SET, "acts"), (TABLE[2], "rests"), (PUT, "acts")],
+    ),
+    (normal.normal, ("table",), ((PUT, ("set", ("b", "c"), "x", 1), HIDE, SET),), (HIDE, SET, PUT)),
+    (normal.alike, ("one", "other"), ((PUT, ("set", ("b",), "x", 1), HIDE), (HIDE, PUT)), None),
+    (composing.composed, ("one", "other"), ((DROP, HIDE), (PUT, SET)), (HIDE, DROP, SET, PUT)),
+    (
+        composing.merged, ("base", "one", "other"), ((DROP,), (HIDE, SET), (("set", ("b",), "x", 1), DROP)),
+        ((HIDE, SET, ("set", ("b",), "x", 1)), [("under", ("prop", ("b",), "x"))]),
+    ),
+    (between.between, ("one", "other"), (TREE, MADE), (HIDE, DROP, SET, PUT)),
+    (between.cost, ("table",), ((HIDE, SET, ("put", ("d",), TREE)),), 9),
+    (between.common, ("trees",), ((TREE, MADE, TREE),), (TREE, 4)),
 )
 FILES = {
     "variantnest.values": {"is_name", "is_path", "is_value"},
@@ -41,6 +60,10 @@ FILES = {
     "variantnest.tables": {
         "is_entry", "is_table", "key_of", "make_table", "entry_with", "with_entry", "without_entry",
     },
+    "variantnest.applying": {"applied", "entry_words"},
+    "variantnest.normal": {"normal", "alike"},
+    "variantnest.composing": {"composed", "merged"},
+    "variantnest.between": {"between", "cost", "common"},
 }
 
 
@@ -59,8 +82,9 @@ def changed(value):
             changed(item)
 
 
-def has_lists(value):
-    return isinstance(value, list) or isinstance(value, tuple) and any(has_lists(item) for item in value)
+def kinds(value):
+    """The value with each object replaced by its kind."""
+    return (type(value), [kinds(item) for item in value]) if isinstance(value, (list, tuple)) else type(value)
 
 
 class Interface(unittest.TestCase):
@@ -103,10 +127,7 @@ class Passing(unittest.TestCase):
     def test_tuples_come_back(self):
         for function, _, passed, result in CALLS:
             if not asks(function):
-                found = function(*lists(passed))
-                self.assertIs(type(found), type(result), function.__name__)
-                inner = tuple(found) if isinstance(found, list) else found
-                self.assertFalse(has_lists(inner), function.__name__)
+                self.assertEqual(kinds(function(*lists(passed))), kinds(result), function.__name__)
 
     def test_arguments_stay(self):
         for function, _, passed, _ in CALLS:
@@ -130,12 +151,9 @@ class Passing(unittest.TestCase):
 
     def test_returned_lists_are_new(self):
         for function, _, passed, result in CALLS:
-            if isinstance(result, list):
-                found = function(*passed)
-                found.append("changed")
-                found.reverse()
+            if function.__name__ in ("nodes", "in_order", "loose", "entry_words", "merged"):
+                changed(function(*passed))
                 self.assertEqual(function(*passed), result, function.__name__)
-                self.assertIsNot(function(*passed), function(*passed))
 
     def test_questions_are_answered_with_truth_values(self):
         for function, _, passed, _ in CALLS:

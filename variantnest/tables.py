@@ -62,7 +62,17 @@ def make_table(entries):
         if key in rows:
             raise TwoEntries(key)
         rows[key] = entry
+    return ordered(rows)
+
+
+def ordered(rows):
+    """Return the table of the entries that a dict has under their keys."""
     return tuple([rows[key] for key in sorted(rows)])
+
+
+def keyed(entries):
+    """Return a dict of some entries under their keys."""
+    return {entry_key(entry): entry for entry in entries}
 
 
 def entry_with(table, key):
@@ -94,3 +104,16 @@ def without_entry(table, key):
 def others(table, key):
     """Return the entries of a table that do not have a key."""
     return tuple([entry for entry in table if entry_key(entry) != key])
+
+
+def is_covered(entry, hidden):
+    """Return whether hide entries, whose paths a dict has, leave an entry nothing to do in any tree."""
+    return any([path in hidden for path in covering_paths(entry)])
+
+
+def covering_paths(entry):
+    """Return the paths at which a hide entry leaves an entry nothing to do in any tree."""
+    path = entry[1]
+    # At the path of a hide entry a put entry is what may act, and the hide entry itself stands there.
+    longest = len(path) if entry[0] in ("drop", "set") else len(path) - 1
+    return [path[:many] for many in range(1, longest + 1)]

@@ -131,5 +131,9 @@ def loose(tree):
 
 def size(tree):
     """Return the number of the nodes and of all their props together."""
-    tree = checked_tree(tree)
-    return sum([1 + len(node_at(tree, path)[0]) for path in paths_in(tree)])
+    return size_of(checked_tree(tree))
+
+
+def size_of(tree):
+    """Return what size does, for an object that is known to be a tree."""
+    return 1 + len(tree[0]) + sum([size_of(pair[1]) for pair in tree[1]])
