@@ -2,13 +2,12 @@
 
 import functools
 import itertools
-import time
 import unittest
 
 from tests import samples
 from tests.samples import (
-    EIGHT, EMPTY, JUNK, chain, deep, full_tree, is_table, is_tree, lists, near_table, near_tree, paths_of, refused,
-    seeded, some_tree, trees_up_to, tuples, without,
+    EIGHT, EMPTY, JUNK, chain, deep, full_tree, is_table, is_tree, lists, near_table, near_tree, paths_of, quick,
+    refused, seeded, some_tree, trees_up_to, tuples, without,
 )
 from variantnest.applying import applied
 from variantnest.between import between, common, cost
@@ -99,9 +98,7 @@ class Between(unittest.TestCase):
         for many in (60, 400, 450):
             one = full_tree(many)
             other = applied(near_table(rng, 12), full_tree(many + 7))
-            start = time.process_time()
-            found = between(one, other)
-            self.assertLess(time.process_time() - start, 0.5)
+            found = quick(self, 0.5, between, one, other)
             self.assertEqual(samples.applied(found, one), other)
 
 
@@ -138,9 +135,7 @@ class Cost(unittest.TestCase):
 
     def test_full_tables(self):
         table = [("put", ("a", one + other), full_tree(59)) for one in "abcdef" for other in "abcdef"]
-        start = time.process_time()
-        self.assertEqual(cost(table), 36 * 177)
-        self.assertLess(time.process_time() - start, 0.5)
+        self.assertEqual(quick(self, 0.5, cost, table), 36 * 177)
 
 
 class Common(unittest.TestCase):
@@ -239,15 +234,11 @@ class Common(unittest.TestCase):
         rng = seeded(56)
         for many in (60, 400):
             trees = [applied(near_table(rng, 12), full_tree(many + at)) for at in range(6)]
-            start = time.process_time()
-            common(trees)
-            self.assertLess(time.process_time() - start, 0.5)
+            quick(self, 0.5, common, trees)
             self.check(trees)
 
     def test_wide_trees(self):
         names = ["".join(signs) for signs in itertools.product("abcdefghijklmnopqrst", repeat=2)]
         trees = [((), tuple((name + last, X) for name in names)) for last in "abcdef"]
-        start = time.process_time()
         # For each child, one tree puts its two, which is cheaper than that the five others hide it.
-        self.assertEqual(common(trees)[1], 4800)
-        self.assertLess(time.process_time() - start, 1)
+        self.assertEqual(quick(self, 1, common, trees)[1], 4800)

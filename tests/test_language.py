@@ -42,7 +42,8 @@ BARRED = set(
 # Rules that allow a part of a kind of statement or expression; the package does without.
 UNUSED = (
     ast.Import, ast.Global, ast.AsyncFunctionDef, ast.Await, ast.AsyncFor, ast.AsyncWith, ast.GeneratorExp,
-    ast.SetComp, ast.Set, ast.Div, ast.NamedExpr, ast.Match, ast.With, ast.Lambda,
+    ast.SetComp, ast.Set, ast.Div, ast.NamedExpr, ast.Match, ast.With, ast.Yield, ast.YieldFrom, ast.Nonlocal,
+    ast.Delete, ast.Assert, ast.AnnAssign,
 )
 
 
@@ -176,12 +177,71 @@ class Names(unittest.TestCase):
 class Statements(unittest.TestCase):
 
     def test_kinds(self):
-        keyed = [key.value for _, item in walked(ast.Call) for key in item.keywords if key.arg == "key"]
-        places = {(key.lineno, key.col_offset) for key in keyed}
         for name, item in walked(UNUSED):
-            if isinstance(item, ast.Lambda) and (item.lineno, item.col_offset) in places:
-                continue
             self.fail((name, getattr(item, "lineno", None), item))
+
+    def test_lambdas(self):
+        lines = [(name, item.lineno) for name, item in walked(ast.Lambda)]
+        self.assertEqual(len(lines), len(set(lines)))
+        called = [part for _, item in walked(ast.Call) for part in [*item.args, *[row.value for row in item.keywords]]]
+        for name, item in walked(ast.Lambda):
+            self.assertIn((item.lineno, item.col_offset), [(part.lineno, part.col_offset) for part in called], name)
+
+    def test_stars_in_calls(self):
+        for name, item in walked(ast.Call):
+            for part in item.args:
+                if isinstance(part, ast.Starred):
+                    self.assertIsInstance(part.value, ast.Name, (name, item.lineno))
+            self.assertTrue(all(row.arg for row in item.keywords), (name, item.lineno))
+
+    def test_sets_are_sorted_at_once(self):
+        allowed = [
+            part for _, item in walked(ast.Call) if isinstance(item.func, ast.Name) and item.func.id == "sorted"
+            and not item.keywords for part in item.args
+        ]
+        for name, item in walked(ast.Call):
+            if isinstance(item.func, ast.Name) and item.func.id in ("set", "frozenset"):
+                self.assertIn((item.lineno, item.col_offset), [(part.lineno, part.col_offset) for part in allowed], name)
+
+    def test_any_and_all_take_lists(self):
+        for name, item in walked(ast.Call):
+            if isinstance(item.func, ast.Name) and item.func.id in ("any", "all", "sum"):
+                self.assertIsInstance(item.args[0], (ast.ListComp, ast.Call), (name, item.lineno))
+
+    def test_views_are_iterated_at_once(self):
+        places = [item.iter for _, item in walked((ast.For, ast.comprehension))]
+        for _, item in walked(ast.Call):
+            if isinstance(item.func, ast.Name) and item.func.id in ("list", "tuple", "sorted", "sum", "enumerate"):
+                places.extend(item.args[:1])
+        places = {(part.lineno, part.col_offset) for part in places}
+        for name, item in walked(ast.Call):
+            word = item.func.id if isinstance(item.func, ast.Name) else getattr(item.func, "attr", "")
+            if word in ("zip", "enumerate", "reversed", "range", "keys", "values", "items"):
+                self.assertIn((item.lineno, item.col_offset), places, (name, item.lineno))
+
+    def test_what_a_loop_goes_over_stays(self):
+        for name, loop in walked(ast.For):
+            over = ast.unparse(loop.iter)
+            for item in [part for row in loop.body for part in ast.walk(row)]:
+                if isinstance(item, ast.Call) and isinstance(item.func, ast.Attribute):
+                    if item.func.attr in ("append", "extend", "pop", "update", "clear", "insert", "remove", "setdefault"):
+                        self.assertNotEqual(ast.unparse(item.func.value), over, (name, loop.lineno))
+                if isinstance(item, ast.Subscript) and not isinstance(item.ctx, ast.Load):
+                    self.assertNotEqual(ast.unparse(item.value), over, (name, loop.lineno))
+
+    def test_attributes_and_methods_have_different_names(self):
+        methods, attributes = set(), set()
+        for _, item in walked(ast.ClassDef):
+            methods |= {part.name for part in item.body if isinstance(part, ast.FunctionDef)}
+        for _, item in walked(ast.Attribute):
+            if isinstance(item.ctx, ast.Store):
+                attributes.add(item.attr)
+        self.assertEqual(methods & attributes, set())
+        self.assertFalse(attributes & (METHODS - set("count index title find get join lower upper split strip copy add".split())))
+
+    def test_no_list_is_sorted_in_place(self):
+        for name, item in walked(ast.Attribute):
+            self.assertNotEqual(item.attr, "sort", name)
 
     def test_constants(self):
         for name, item in walked(ast.Constant):

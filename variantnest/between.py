@@ -8,7 +8,12 @@ from variantnest.trees import checked_tree, is_tree, size_of
 
 def between(one, other):
     """Return the table that makes the second of two trees of the first."""
-    return ordered(keyed(node_entries((), checked_tree(one), checked_tree(other))))
+    return table_between(checked_tree(one), checked_tree(other))
+
+
+def table_between(one, other):
+    """Return what between does, for objects that are known to be trees."""
+    return ordered(keyed(node_entries((), one, other)))
 
 
 def node_entries(path, one, other):

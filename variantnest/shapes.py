@@ -29,3 +29,8 @@ def is_pair(value):
 def ascends(keys):
     """Return whether each of some keys is greater than the one ahead of it."""
     return all([one < other for one, other in zip(keys, keys[1:])])
+
+
+def begins(path, start):
+    """Return whether a path is another one or below it."""
+    return path[:len(start)] == start

@@ -18,13 +18,19 @@ def is_tree_within(value, levels):
     if levels < 0 or not is_pair(value):
         return False
     props, children = value
-    if not are_named(props) or not are_named(children):
-        return False
-    if not ascends(names_of(props)) or not ascends(names_of(children)):
-        return False
-    if not all([is_value(pair[1]) for pair in props]):
+    if not are_props(props) or not are_rows(children):
         return False
     return all([is_tree_within(pair[1], levels - 1) for pair in children])
+
+
+def are_props(pairs):
+    """Return whether any object is the props of a node."""
+    return are_rows(pairs) and all([is_value(pair[1]) for pair in pairs])
+
+
+def are_rows(pairs):
+    """Return whether any object is a tuple of pairs that begin with names, which ascend."""
+    return are_named(pairs) and ascends(names_of(pairs))
 
 
 def are_named(pairs):
