@@ -213,3 +213,58 @@ def entry_shown(plain, entry):
     if entry[0] == "put":
         return ("put", entry[1], tree_of(plain.piece_rows(entry[2], entry[1])))
     return entry
+
+
+def written(plain, piece, entry, at=()):
+    """[25]: a piece at a path, changed by an entry whose path counts from the root of the piece."""
+    word, path = entry[:2]
+    concerned = path[:-1] if word in ("hide", "put") else path
+    many = 0
+    while part(piece, concerned[:many])[0] == "node" and many < len(concerned):
+        many += 1
+    found = part(piece, concerned[:many])
+    if found[0] == "node":
+        props, children = dict(found[1]), dict(found[2])
+        if word == "set":
+            props[entry[2]] = entry[3]
+        elif word == "drop":
+            props.pop(entry[2], None)
+        elif word == "hide":
+            del children[path[-1]]
+        else:
+            children[path[-1]] = entry[2]
+        return replaced(piece, concerned, ("node", tuple(sorted(props.items())), tuple(sorted(children.items()))))
+    place, rest = concerned[:many], path[many:]
+    entries = list(found[3])
+    puts = [put for put in plain.acting(found) if rest[:len(put[1])] == put[1]]
+    if puts and word == "hide" and puts[0][1] == rest:
+        entries.remove(puts[0])
+    elif puts:
+        put, below = puts[0], (word, rest[len(puts[0][1]):], *entry[2:])
+        entries[entries.index(put)] = (*put[:2], written(plain, put[2], below, (*at, *place, *put[1])))
+    else:
+        entry = (word, rest, *entry[2:])
+        entries = [other for other in entries if key_of(other) != key_of(entry)]
+        if word == "hide":
+            entries = [other for other in entries if other[:2] != ("put", rest)]
+        props = linked(plain.rows(found[1], found[2]).get(rest, {}), (*at, *place))
+        says_it = word == "set" and props.get(entry[2]) == entry[3] or word == "drop" and entry[2] not in props
+        if not says_it:
+            entries.append(entry)
+    return replaced(piece, place, (*found[:3], tuple(sorted(entries, key=key_of))))
+
+
+def links_shortened(entry, many):
+    """An entry with a piece, with so many names less at the beginning of each link."""
+    def worth_of(worth):
+        return ("link", worth[1][many:]) if isinstance(worth, tuple) else worth
+
+    def piece_of_links(piece):
+        if piece[0] == "node":
+            props = tuple((name, worth_of(worth)) for name, worth in piece[1])
+            return ("node", props, tuple((name, piece_of_links(child)) for name, child in piece[2]))
+        return (*piece[:3], tuple(links_shortened(some, many) for some in piece[3]))
+
+    if entry[0] == "put":
+        return ("put", entry[1], piece_of_links(entry[2]))
+    return (*entry[:3], worth_of(entry[3])) if entry[0] == "set" else entry

@@ -103,6 +103,12 @@ class Change(unittest.TestCase):
         self.becomes(library, "c", "drop k x", "{k<a 0: drop . x>}")
         self.becomes(library, "c", "set k x 1", "{k<a 0>}")
 
+    def test_a_link_of_a_use_far_below(self):
+        library = shelf("a {l=@b, b{}}", "c {x{y{k<a 0: set . l 1>}}}")
+        self.becomes(library, "c", "set x/y/k l @k/b", "{x{y{k<a 0: set . l @k/b>}}}")
+        self.becomes(library, "c", "set x/y/k l @y/k/b", "{x{y{k<a 0: set . l @y/k/b>}}}")
+        self.becomes(library, "c", "set x/y/k l @x/y/k/b", "{x{y{k<a 0>}}}")
+
     def test_a_link_in_a_put_piece_and_its_use(self):
         library = shelf("a {l=@b, b{}}", "c {k<a 0: put d <a 0: set . l 1>>}")
         self.becomes(library, "c", "set k/d l @k/b", "{k<a 0: put d <a 0: set . l @k/b>>}")

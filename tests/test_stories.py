@@ -4,7 +4,8 @@ import unittest
 
 from tests import samples
 from tests.plain import (
-    Plain, all_uses, called, child_renamed, entry_shown, own_prop_rename, own_rename, part, prop_renamed, replaced,
+    Plain, all_uses, called, child_renamed, entry_shown, links_shortened, own_prop_rename, own_rename, part,
+    prop_renamed, replaced, written,
 )
 from tests.refusals import refusal
 from tests.samples import key_of, paths_of, seeded, tree_of, tuples
@@ -139,6 +140,7 @@ class Story(unittest.TestCase):
     def check_change(self, before, library, old, new, result, name, entry):
         self.assertIsNone(result)
         self.assertEqual(library.shown(name), samples.applied((entry_shown(old, entry),), before.shown(name)))
+        self.assertEqual(library.definition(name), written(old, old.pieces[name], entry))
         self.same_but(before, library, name)
 
     def check_reset(self, before, library, old, new, result, name, place, key):
@@ -167,6 +169,11 @@ class Story(unittest.TestCase):
         moved = [other for other in gone if other[0] == "hide" or other == entry]
         moved = tuple(entry_shown_below(old, other, place) for other in moved)
         self.assertEqual(library.shown(use[1]), samples.applied(moved, before.shown(use[1])))
+        lower = old.pieces[use[1]]
+        is_there = key[0] == "put" and key[1] in old.rows(use[1])
+        for other in [other for other in gone if other == entry or other[:2] == ("hide", key[1]) and is_there]:
+            lower = written(old, lower, links_shortened(other, len(place)))
+        self.assertEqual(library.definition(use[1]), lower)
         names = [some for some in library.names() if before.shown(some) != library.shown(some)]
         self.assertEqual(result, [(some, between(before.shown(some), library.shown(some))) for some in names])
 
@@ -317,8 +324,8 @@ class Stories(Story):
 
     def test_stories(self):
         total = {}
-        for number in range(60):
-            library, counts = self.story(number, 40)
+        for number in range(100):
+            library, counts = self.story(number, 40, KEEPING if number % 2 else ALL)
             self.end(library)
             for key in counts:
                 total[key] = total.get(key, 0) + counts[key]

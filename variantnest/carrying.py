@@ -94,7 +94,7 @@ class Carrier:
         """Carry out a renaming of a template, in the form of a row of its log, but not in its own nodes."""
         found = self.reached(name, row)
         renaming = made_renaming(found, row)
-        concerned = [user for user in self.pieces if user in found or self.uses_any(user, found)]
+        concerned = [user for user in self.pieces if user in found]
         for user in concerned:
             refuse_clash(renaming, user, self.pieces[user])
         for user in concerned:
@@ -104,7 +104,7 @@ class Carrier:
             self.logs[user] = (*self.logs[user], *[(row[0], path, *row[2:]) for path in paths])
 
     def reached(self, name, row):
-        """Return the paths in each template that stand for a child or lead to a node."""
+        """Return the paths that stand for a child or lead to a node, in each template that may have some."""
         found = {name: {row[1]: True}}
         for user in self.order:
             if self.uses_any(user, found):

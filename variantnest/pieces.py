@@ -122,7 +122,7 @@ def relinked_value(worth, change):
 def relinked_entry(entry, change):
     """Return an entry with a piece, with what a function makes of the path of each link."""
     if entry[0] == "put":
-        return (*entry[:2], relinked(entry[2], change), *entry[3:])
+        return (*entry[:2], relinked(entry[2], change))
     if entry[0] == "set":
         return (*entry[:3], relinked_value(entry[3], change))
     return entry
