@@ -56,6 +56,11 @@ class Push(unittest.TestCase):
         self.assertEqual(self.pushed(library, "u", "k", "put a"), ["t"])
         self.assertEqual((text(library, "t"), text(library, "u")), ("{a{}, c{}}", "{k<t 0>}"))
 
+    def test_hide_of_what_an_entry_put(self):
+        library = shelf("t {b{}}", "m <t 0: put a {z{}}>", "u {k<m 0: hide a; put a {}>}")
+        self.assertEqual(self.pushed(library, "u", "k", "hide a"), ["m"])
+        self.assertEqual((text(library, "m"), text(library, "u")), ("<t 0>", "{k<m 0: put a {}>}"))
+
     def test_put_with_hide(self):
         library = shelf(
             "t {a{b{}}, c{}}",

@@ -103,6 +103,17 @@ class Upgrade(unittest.TestCase):
             ("prop", ("e",), "x"),
         ])
 
+    def test_the_returned_keys_ascend_under_their_new_names(self):
+        library = shelf("t {x=1, y=1, a{x=1}, b{x=1}}")
+        library.release("t")
+        library.make("u", P("<t 1: set . x 3; set . y 3; set a x 3; set b x 3>"))
+        library.define("t", P("{x=2, y=2, a{x=2}, b{x=2}}"))
+        library.rename_child("t", ("a",), "z")
+        library.rename_prop("t", (), "x", "zz")
+        self.assertEqual(library.upgrade("u", (), 0), [
+            ("prop", (), "y"), ("prop", (), "zz"), ("prop", ("b",), "x"), ("prop", ("z",), "x"),
+        ])
+
     def test_links_are_compared_as_the_releases_show_them(self):
         library = shelf("t {l=@a, m=@b, a{}, b{}}")
         library.release("t")
