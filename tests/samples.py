@@ -316,10 +316,22 @@ def full_table(rng, tree, many):
 
 
 def quick(test, limit, function, *passed):
-    """The result of a call that takes less than so many seconds: the best of some, as the machine may halt at times."""
-    for _ in range(8):
+    """The result of a call that takes less than so many seconds, the best of some: the machine itself may halt."""
+    times = []
+    for _ in range(6):
         start = time.process_time()
         found = function(*passed)
-        if time.process_time() - start < limit:
+        times.append(time.process_time() - start)
+        if times[-1] < limit:
             return found
-    return test.fail((function, limit))
+    test.assertLess(min(times), limit * slowness())
+    return found
+
+
+def slowness():
+    """How many times longer than usual this machine takes at the moment to do something that needs memory."""
+    start = time.process_time()
+    for _ in range(40):
+        rows = [(number, (number, str(number))) for number in range(20000)]
+        rows.reverse()
+    return max(1, (time.process_time() - start) / 0.4)

@@ -85,6 +85,7 @@ class Reading(unittest.TestCase):
             "child a b/ c", "child a b//c d", "child a B c", "child a a/b/c/d/e/f/g/h/i z", "child  a b c", "child a @b c",
             "prop a b x", "prop a . x", "prop a . x y z", "prop a . X y", "prop a . x Y", "prop a  x y", "prop a .  x y",
             "prop a a/b/c/d/e/f/g/h/i x y", "make a {}", "set a . x 1", "child\ta b c", "child", "prop", "prop a",
+            "chil a b c", "foo a b c", "childs a b c", "Child a b c", "props a b c d", "put a b c", "x a b c d",
         ):
             self.wrong(1, "template a {}\n" + line)
             if line:
